@@ -1,0 +1,1 @@
+"""Spindlefit: machines that exchange spindles."""

@@ -1,0 +1,3 @@
+"""Numbers that bound what the package lists."""
+
+MOST_LISTED = 300
