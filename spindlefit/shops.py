@@ -59,12 +59,15 @@ def is_setting(shop, thing):
     return all([part in sizes and fits(shop, machine, part) for machine, part in enumerate(thing)])
 
 
-def fits(shop, machine, size):
-    ranges = shop[1]
+def check_machine(shop, machine):
     # A negative index would silently count from the end.
-    if not 0 <= machine < len(ranges):
+    if not 0 <= machine < len(shop[1]):
         raise NoMachine(machine)
-    low, high = ranges[machine]
+
+
+def fits(shop, machine, size):
+    check_machine(shop, machine)
+    low, high = shop[1][machine]
     return low <= size <= high
 
 

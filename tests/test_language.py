@@ -7,7 +7,9 @@ import unittest
 from pathlib import Path
 
 PACKAGE = Path(__file__).resolve().parent.parent / "spindlefit"
-MODULES = ["errors", "limits", "shops"]
+MODULES = [
+    "errors", "limits", "shops", "exchanges", "settings", "service",
+]
 ALLOWED_BUILTINS = set(
     "len range enumerate zip min max sum abs sorted reversed int str bool list tuple dict set isinstance ord repr "
     "any all divmod iter next bytes frozenset Exception ValueError TypeError KeyError IndexError LookupError "

@@ -1,84 +1,11 @@
-import copy
 import itertools
 import unittest
 
+from common import (
+    HUGE, LISTED_SHOP, MIXED_SHOPS, SETTINGS, SHOP, WRONG_PARTS, Case, kinds_of, nested, part_at, places, replaced,
+)
 from spindlefit.errors import NoMachine
 from spindlefit.shops import fits, holder, is_setting, is_shop, rack
-
-SHOP = ((2, 3, 5, 7, 8), ((1, 4), (2, 7), (3, 9)))
-LISTED_SHOP = [[2, 3, 5, 7, 8], [[1, 4], [2, 7], [3, 9]]]
-MIXED_SHOPS = [
-    LISTED_SHOP,
-    ([2, 3, 5, 7, 8], ((1, 4), (2, 7), (3, 9))),
-    ((2, 3, 5, 7, 8), [(1, 4), (2, 7), (3, 9)]),
-    [(2, 3, 5, 7, 8), ([1, 4], (2, 7), [3, 9])],
-]
-# All settings of SHOP, by hand: machine 0 takes 2, 3; machine 1 takes 2, 3, 5, 7; machine 2 takes 3, 5, 7, 8.
-SETTINGS = [
-    (2, 3, 5), (2, 3, 7), (2, 3, 8), (2, 5, 3), (2, 5, 7), (2, 5, 8), (2, 7, 3), (2, 7, 5), (2, 7, 8),
-    (3, 2, 5), (3, 2, 7), (3, 2, 8), (3, 5, 7), (3, 5, 8), (3, 7, 5), (3, 7, 8),
-]
-HUGE = 10 ** 5000
-
-
-def nested(value, levels):
-    for _ in range(levels):
-        value = (value,)
-    return value
-
-
-WRONG_PARTS = [
-    None, True, False, 0, -1, -HUGE, 4, HUGE, "", "5", "25", (), [], (2,), [2], (2, 3), [2, 3], (2, 3, 5),
-    ((1, 4),), [[1, 4]], (None, None), ("1", "4"), (True, True), ((), ()), nested(2, 6), [[[[[2]]]]],
-]
-
-
-def places(value, here=()):
-    """The path of value and of every value inside it."""
-    found = [here]
-    if isinstance(value, (list, tuple)):
-        for at, part in enumerate(value):
-            found.extend(places(part, here + (at,)))
-    return found
-
-
-def part_at(value, path):
-    for at in path:
-        value = value[at]
-    return value
-
-
-def replaced(value, path, new):
-    """value with new at path; every sequence keeps its own kind."""
-    if not path:
-        return new
-    parts = list(value)
-    parts[path[0]] = replaced(parts[path[0]], path[1:], new)
-    return type(value)(parts)
-
-
-def kinds_of(value):
-    """value with the kind of each part beside it, so that True and 1, or a list and a tuple, differ."""
-    if isinstance(value, (list, tuple)):
-        return type(value), [kinds_of(part) for part in value]
-    return type(value), value
-
-
-class Case(unittest.TestCase):
-    def same_twice(self, function, *given):
-        """The result of a call, which a second call returns again and which leaves what is given as it is."""
-        before = kinds_of(copy.deepcopy(given))
-        first = function(*given)
-        second = function(*given)
-        self.assertEqual((first, type(first)), (second, type(second)))
-        self.assertTrue(kinds_of(given) == before)
-        return first
-
-    def yes(self, function, *given):
-        self.assertIs(self.same_twice(function, *given), True)
-
-    def no(self, function, *given):
-        self.assertIs(self.same_twice(function, *given), False)
 
 
 class IsShop(Case):
@@ -168,7 +95,7 @@ class IsShop(Case):
         for path in places(SHOP):
             for part in WRONG_PARTS:
                 thing = replaced(SHOP, path, part)
-                answer = self.same_twice(is_shop, thing)
+                answer = self.call(is_shop, thing)
                 # A few of the parts are right at some places: a pair as the range, a 4 or HUGE as a size.
                 self.assertIs(answer, self.by_the_words(thing), path)
                 right += answer
@@ -269,7 +196,7 @@ class Fits(Case):
             for machine, (low, high) in enumerate(SHOP[1]):
                 for size in range(-3, 14):
                     expected = size in list(range(low, high + 1))
-                    self.assertIs(self.same_twice(fits, shop, machine, size), expected, (machine, size))
+                    self.assertIs(self.call(fits, shop, machine, size), expected, (machine, size))
 
     def test_both_ends_and_one_beyond(self):
         shop = ((2,), ((5, 5), (3, 10 ** 9)))
@@ -312,13 +239,13 @@ class Rack(Case):
             for setting in SETTINGS:
                 expected = tuple(sorted({2, 3, 5, 7, 8} - set(setting)))
                 for given in (setting, list(setting)):
-                    answer = self.same_twice(rack, shop, given)
+                    answer = self.call(rack, shop, given)
                     self.assertEqual(answer, expected)
                     self.assertIs(type(answer), tuple)
 
     def test_an_empty_rack(self):
         for shop, setting in [(((4,), ((1, 9),)), (4,)), (((2, 3), ((1, 4), (1, 4))), (3, 2))]:
-            self.assertEqual(self.same_twice(rack, shop, setting), ())
+            self.assertEqual(self.call(rack, shop, setting), ())
 
     def test_one_spindle_left(self):
         self.assertEqual(rack(((2, 3, 10 ** 9), ((1, 4), (1, 4))), (3, 2)), (10 ** 9,))
@@ -333,14 +260,14 @@ class Holder(Case):
         for setting in SETTINGS:
             for given in (setting, list(setting)):
                 for machine in range(3):
-                    answer = self.same_twice(holder, given, setting[machine])
+                    answer = self.call(holder, given, setting[machine])
                     self.assertEqual((answer, type(answer)), (machine, int))
 
     def test_nobody(self):
         for setting in SETTINGS:
             for given in (setting, list(setting)):
                 for size in [0, 1, 4, 6, 9, -1, -2, -3, HUGE, -HUGE] + [k for k in (2, 3, 5, 7, 8) if k not in setting]:
-                    self.assertIsNone(self.same_twice(holder, given, size))
+                    self.assertIsNone(self.call(holder, given, size))
 
     def test_one_machine(self):
         self.assertEqual(holder((7,), 7), 0)

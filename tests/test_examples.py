@@ -1,0 +1,65 @@
+"""The examples of the document, word for word."""
+
+import ast
+import re
+import unittest
+
+from spindlefit import errors, exchanges, service, settings
+
+# Point -> the modules that its examples use, and the examples.
+EXAMPLES = {
+    5: ([exchanges], """
+      >>> exchanges(shop, (2, 3, 5))
+      [('swap', 0, 1), ('swap', 1, 2), ('take', 1, 7), ('take', 2, 7), ('take', 2, 8)]
+      >>> exchanged(shop, (2, 3, 5), ("take", 1, 8))
+      raises Unfit(1)
+      >>> back(shop, (2, 3, 5), [("take", 2, 8), ("swap", 0, 1)])
+      [('swap', 0, 1), ('take', 2, 5)]
+    """),
+    6: ([settings], """
+      >>> verdict(shop)
+      ('setting', (2, 3, 5))
+      >>> verdict(((2, 3, 9), ((1, 4), (2, 4), (2, 3))))[0]
+      'overfull'
+      >>> can_hold(shop, 1), can_lie(shop)
+      ([2, 3, 5, 7], [2, 3, 5, 7, 8])
+    """),
+    7: ([service], """
+      >>> poor = ((3, 4, 9), ((3, 4), (2, 4), (4, 5), (9, 9)))
+      >>> most_served(poor), shows_shortages(poor, 1, [(2, 5)]), shows_service(poor, (3, None, 4, 9))
+      (3, True, True)
+    """),
+}
+
+
+def lines_of(text):
+    return [line.strip() for line in text.strip().split("\n")]
+
+
+class Examples(unittest.TestCase):
+    def check(self, line, expected, names):
+        raised = re.fullmatch(r"raises (\w+)\((.*)\)", expected)
+        if not raised:
+            self.assertEqual(repr(eval(line, names)), expected, line)
+            return
+        error = getattr(errors, raised.group(1))
+        with self.assertRaises(error) as caught:
+            eval(line, names)
+        self.assertEqual(list(vars(caught.exception).values()), [ast.literal_eval(raised.group(2))], line)
+
+    def test_each(self):
+        for point, (modules, text) in EXAMPLES.items():
+            names = {"shop": ((2, 3, 5, 7, 8), ((1, 4), (2, 7), (3, 9)))}
+            for module in modules:
+                names.update(vars(module))
+            lines = lines_of(text)
+            for line, following in zip(lines, lines[1:] + [">>> "]):
+                if line.startswith(">>> ") and not following.startswith(">>> "):
+                    with self.subTest(point=point):
+                        self.check(line[4:], following, names)
+                elif line.startswith(">>> "):
+                    exec(line[4:], names)
+
+
+if __name__ == "__main__":
+    unittest.main()

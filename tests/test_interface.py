@@ -1,0 +1,34 @@
+"""Every function has the parameters that the document writes: their names, their order, what may be omitted."""
+
+import importlib
+import inspect
+import unittest
+
+WRITTEN = {
+    "shops": "is_shop(thing) is_setting(shop, thing) fits(shop, machine, size) rack(shop, setting) "
+             "holder(setting, size)",
+    "exchanges": "exchanges(shop, setting) exchanged(shop, setting, exchange) exchanged_all(shop, setting, row) "
+                 "back(shop, setting, row)",
+    "settings": "verdict(shop) shows_overfull(shop, thing) can_hold(shop, machine) can_lie(shop) certain(shop)",
+    "service": "most_served(shop) service(shop) shows_service(shop, thing) shortages(shop) "
+               "shows_shortages(shop, many, thing)",
+}
+
+
+def signatures(text):
+    """The pairs of name and parameters, as written."""
+    return [tuple(part.split("(", 1)) for part in text.replace(") ", ")|").split("|")]
+
+
+class Interface(unittest.TestCase):
+    def test_parameters(self):
+        for module, text in WRITTEN.items():
+            for name, parameters in signatures(text):
+                with self.subTest(module, name=name):
+                    function = getattr(importlib.import_module("spindlefit." + module), name)
+                    self.assertEqual(str(inspect.signature(function)), "(" + parameters)
+                    self.assertEqual(function.__module__, "spindlefit." + module)
+
+
+if __name__ == "__main__":
+    unittest.main()
