@@ -19,6 +19,8 @@ SETTINGS = [
     (2, 3, 5), (2, 3, 7), (2, 3, 8), (2, 5, 3), (2, 5, 7), (2, 5, 8), (2, 7, 3), (2, 7, 5), (2, 7, 8),
     (3, 2, 5), (3, 2, 7), (3, 2, 8), (3, 5, 7), (3, 5, 8), (3, 7, 5), (3, 7, 8),
 ]
+# As large as a shop may be, and every size fits everywhere.
+WIDE = (tuple(range(1, 13)), ((1, 12),) * 8)
 # Python refuses to write out ints of more than 4300 digits; the package must take them all the same.
 HUGE = 10 ** 5000
 # Shops without settings: more machines than spindles, a range without a spindle, three machines for two spindles.
@@ -256,7 +258,8 @@ def pairs_at_the_bounds(seed, many, machines=8, spindles=12, greatest=40):
             other = nearby(rng, sizes, one)
         slack = rng.choice((0, 0, 1, 5, greatest))
         ranges = tuple(
-            (max(1, min(pair) - rng.randint(0, slack)), max(pair) + rng.randint(0, slack)) for pair in zip(one, other)
+            (max(1, min(pair) - rng.randint(0, slack)), min(greatest, max(pair) + rng.randint(0, slack)))
+            for pair in zip(one, other)
         )
         found.append(((sizes, ranges), one, other))
     return found
@@ -301,3 +304,53 @@ def matched_beside(shop, held):
         return False
     left = [pair for machine, pair in enumerate(ranges) if machine not in held]
     return most_matched([size for size in sizes if size not in held.values()], left) == len(left)
+
+
+def steps_between(one, other):
+    """The fewest exchanges if all sizes fitted everywhere: one for each machine that moves, less one for each ring."""
+    moving = [machine for machine in range(len(one)) if one[machine] != other[machine]]
+    closed = set()
+    for machine in moving:
+        row, here = [], machine
+        while here is not None and here not in row:
+            row.append(here)
+            here = one.index(other[here]) if other[here] in one else None
+        if here is not None:
+            closed.add(min(row))
+    return len(moving) - len(closed)
+
+
+def shortest_rows(shop, one, other):
+    """All shortest rows from one to other, ascending, by a search."""
+    left = distances(shop, other)
+
+    def rows_from(here):
+        if here == other:
+            return [[]]
+        return [
+            [exchange] + rest for exchange, after in moves(shop, here).items() if left[after] < left[here]
+            for rest in rows_from(after)
+        ]
+
+    return rows_from(one)
+
+
+def settings_along(shop, one, row):
+    """The settings from the first to the last of a row that is possible; None if it is not."""
+    found = [one]
+    for exchange in row:
+        after = moved(shop, found[-1], exchange)
+        if after is None:
+            return None
+        found.append(after)
+    return found
+
+
+def all_nearing(along, other):
+    """Whether in each step every machine whose size changes gets one from that to the one it wants."""
+    for before, after in zip(along, along[1:]):
+        for held, new, wanted in zip(before, after, other):
+            between = range(min(held, wanted), max(held, wanted) + 1)
+            if held != new and new not in between:
+                return False
+    return True

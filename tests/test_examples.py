@@ -4,7 +4,7 @@ import ast
 import re
 import unittest
 
-from spindlefit import errors, exchanges, service, settings
+from spindlefit import counting, errors, exchanges, reach, rings, rows, service, settings
 
 # Point -> the modules that its examples use, and the examples.
 EXAMPLES = {
@@ -28,6 +28,32 @@ EXAMPLES = {
       >>> poor = ((3, 4, 9), ((3, 4), (2, 4), (4, 5), (9, 9)))
       >>> most_served(poor), shows_shortages(poor, 1, [(2, 5)]), shows_service(poor, (3, None, 4, 9))
       (3, True, True)
+    """),
+    8: ([rings], """
+      >>> rings(shop, (2, 3, 5), (3, 2, 8)), chains(shop, (2, 3, 5), (3, 2, 8))
+      ([[0, 1]], [[2]])
+      >>> fewest(shop, (2, 3, 5), (3, 2, 8)), way((2, 3, 5), (3, 2, 8))
+      (2, 5)
+    """),
+    9: ([rows], """
+      >>> shows_nearing(shop, (2, 3, 5), (3, 2, 8), row_to(shop, (2, 3, 5), (3, 2, 8)))
+      True
+      >>> shows_shortest(shop, (2, 3, 5), (3, 2, 8), [("swap", 0, 1), ("take", 2, 8)])
+      True
+      >>> row_to(shop, (2, 3, 5), (3, 2, 8), (0, 2))
+      raises Locked(0)
+    """),
+    10: ([counting], """
+      >>> row_count(shop, (2, 3, 5), (3, 2, 8)), row_at(shop, (2, 3, 5), (3, 2, 8), 1)
+      (2, [('take', 2, 8), ('swap', 0, 1)])
+      >>> row_count(shop, (2, 3, 5), (3, 5, 7))
+      7
+    """),
+    11: ([reach], """
+      >>> can_come(shop, (2, 3, 5), 1, (0, 2)), still(shop, (2, 3, 5), (0, 2))
+      ([3, 7], [0, 2])
+      >>> fewest_for(shop, (2, 3, 5), 0, 3), row_for(shop, (2, 3, 5), 0, 3)
+      (1, [('swap', 0, 1)])
     """),
 }
 

@@ -12,6 +12,14 @@ WRITTEN = {
     "settings": "verdict(shop) shows_overfull(shop, thing) can_hold(shop, machine) can_lie(shop) certain(shop)",
     "service": "most_served(shop) service(shop) shows_service(shop, thing) shortages(shop) "
                "shows_shortages(shop, many, thing)",
+    "rings": "rings(shop, one, other) chains(shop, one, other) settled(shop, one, other) fewest(shop, one, other) "
+             "way(one, other)",
+    "rows": "row_to(shop, one, other, locked=()) shows_row(shop, one, other, thing) "
+            "shows_shortest(shop, one, other, thing) shows_nearing(shop, one, other, thing)",
+    "counting": "row_count(shop, one, other) first_exchanges(shop, one, other) row_at(shop, one, other, number) "
+                "number_of(shop, one, other, row)",
+    "reach": "can_come(shop, setting, machine, locked=()) still(shop, setting, locked=()) "
+             "fewest_for(shop, setting, machine, size, locked=()) row_for(shop, setting, machine, size, locked=())",
 }
 
 

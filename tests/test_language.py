@@ -8,7 +8,7 @@ from pathlib import Path
 
 PACKAGE = Path(__file__).resolve().parent.parent / "spindlefit"
 MODULES = [
-    "errors", "limits", "shops", "exchanges", "settings", "service",
+    "errors", "limits", "shops", "exchanges", "settings", "service", "rings", "rows", "counting", "reach",
 ]
 ALLOWED_BUILTINS = set(
     "len range enumerate zip min max sum abs sorted reversed int str bool list tuple dict set isinstance ord repr "
@@ -106,6 +106,25 @@ class Language(unittest.TestCase):
                     self.assertNotIn(bound, BARRED_NAMES)
                     if not isinstance(node, (ast.FunctionDef, ast.Attribute)):
                         self.assertFalse(hasattr(builtins, bound))
+
+    def test_no_local_name_hides_an_import_a_class_or_a_function(self):
+        for name, tree in self.trees.items():
+            outer = [part for part in tree.body if isinstance(part, (ast.FunctionDef, ast.ClassDef))]
+            taken = [part.name for part in outer]
+            taken += [alias.name for part in tree.body if isinstance(part, ast.ImportFrom) for alias in part.names]
+            self.assertEqual(len(taken), len(set(taken)), name)
+            for bound, node in bound_names(tree):
+                if isinstance(node, ast.arg) or isinstance(node, ast.Name):
+                    self.assertNotIn(bound, taken, name)
+
+    def test_imports_go_one_way(self):
+        sources = {name[:-3]: [node.module.split(".")[1] for node in tree.body if isinstance(node, ast.ImportFrom)]
+                   for name, tree in self.trees.items()}
+        done = []
+        while len(done) < len(sources):
+            ready = [name for name in sources if name not in done and set(sources[name]) <= set(done)]
+            self.assertNotEqual(ready, [], sorted(set(sources) - set(done)))
+            done += ready
 
     def test_builtins(self):
         for name, tree in self.trees.items():

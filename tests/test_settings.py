@@ -169,7 +169,8 @@ class WhatCanBeHeld(Case):
         self.fails(NoMachine(1), can_hold, ((4,), ((5, 9),)), 1)
 
     def test_eight_machines_and_twelve_spindles(self):
-        shops = [shop for shop, _, _ in pairs_at_the_bounds("held", 10)] + large_shops("held", 15)
+        pairs = pairs_at_the_bounds("held", 10) + pairs_at_the_bounds("far", 5, greatest=10 ** 9)
+        shops = [shop for shop, _, _ in pairs] + large_shops("held", 15)
         for shop in shops:
             held = [[size for size in shop[0] if matched_beside(shop, {machine: size})] for machine in range(8)]
             for machine in range(8):
