@@ -47,6 +47,12 @@ def is_shop(thing):
     return are_sizes(sizes) and are_ranges(ranges)
 
 
+def in_tuples(shop):
+    """The shop as tuples at every depth, also if lists were given."""
+    sizes, ranges = shop
+    return (tuple(sizes), tuple([tuple(pair) for pair in ranges]))
+
+
 def is_setting(shop, thing):
     sizes, ranges = shop
     if not isinstance(thing, tuple) or len(thing) != len(ranges):

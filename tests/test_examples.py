@@ -4,10 +4,18 @@ import ast
 import re
 import unittest
 
-from spindlefit import counting, errors, exchanges, reach, rings, rows, service, settings
+from spindlefit import (
+    counting, errors, exchanges, reach, rings, rows, service, settings, shops, sightings, totals,
+)
 
 # Point -> the modules that its examples use, and the examples.
 EXAMPLES = {
+    4: ([shops], """
+    >>> is_setting(shop, (2, 3, 5)), is_setting(shop, (5, 2, 3))
+    (True, False)
+    >>> rack(shop, (2, 3, 5))
+    (7, 8)
+    """),
     5: ([exchanges], """
       >>> exchanges(shop, (2, 3, 5))
       [('swap', 0, 1), ('swap', 1, 2), ('take', 1, 7), ('take', 2, 7), ('take', 2, 8)]
@@ -54,6 +62,18 @@ EXAMPLES = {
       ([3, 7], [0, 2])
       >>> fewest_for(shop, (2, 3, 5), 0, 3), row_for(shop, (2, 3, 5), 0, 3)
       (1, [('swap', 0, 1)])
+    """),
+    12: ([totals], """
+      >>> setting_count(shop), setting_at(shop, 1), setting_number(shop, (3, 2, 8))
+      (16, (2, 3, 7), 11)
+    """),
+    13: ([sightings], """
+      >>> hulls([(2, 3, 5), (3, 2, 8)])
+      ((2, 3), (2, 3), (5, 8))
+      >>> bounds([(0, 4, "fits"), (0, 9, "large"), (1, 5, "small")], 0)
+      ((1, 4), (4, 8))
+      >>> result([(0, 4, "fits"), (0, 6, "fits")], 0, 5), result([(0, 4, "fits")], 0, 5)
+      ('fits', 'open')
     """),
 }
 

@@ -20,6 +20,10 @@ WRITTEN = {
                 "number_of(shop, one, other, row)",
     "reach": "can_come(shop, setting, machine, locked=()) still(shop, setting, locked=()) "
              "fewest_for(shop, setting, machine, size, locked=()) row_for(shop, setting, machine, size, locked=())",
+    "totals": "setting_count(shop) setting_at(shop, number) setting_number(shop, setting) all_settings(shop)",
+    "sightings": "hulls(settings) bounds(trials, machine) result(trials, machine, size)",
+    "changes": "with_range(shop, machine, low, high) with_spindle(shop, size) without_spindle(shop, size) "
+               "with_machine(shop, low, high) renamed(shop, order)",
 }
 
 

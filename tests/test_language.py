@@ -9,6 +9,7 @@ from pathlib import Path
 PACKAGE = Path(__file__).resolve().parent.parent / "spindlefit"
 MODULES = [
     "errors", "limits", "shops", "exchanges", "settings", "service", "rings", "rows", "counting", "reach",
+    "totals", "sightings", "changes",
 ]
 ALLOWED_BUILTINS = set(
     "len range enumerate zip min max sum abs sorted reversed int str bool list tuple dict set isinstance ord repr "
