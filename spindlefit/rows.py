@@ -26,10 +26,15 @@ def first_step(shop, setting, other):
     return [(exchange, after) for exchange, after in nearing if fewest(shop, after, other) < left][0]
 
 
-def row_to(shop, one, other, locked=()):
+def check_settled(one, other, locked):
+    """Raises the error for the least locked machine that is not settled."""
     for machine in locked:
         if one[machine] != other[machine]:
             raise Locked(machine)
+
+
+def row_to(shop, one, other, locked=()):
+    check_settled(one, other, locked)
     row = []
     here = tuple(one)
     while here != tuple(other):

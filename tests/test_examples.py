@@ -3,9 +3,10 @@
 import ast
 import re
 import unittest
+from pathlib import Path
 
 from spindlefit import (
-    counting, errors, exchanges, reach, rings, rows, service, settings, shops, sightings, totals,
+    counting, errors, exchanges, floor, reach, rings, rows, service, settings, sheet, shops, sightings, texts, totals,
 )
 
 # Point -> the modules that its examples use, and the examples.
@@ -75,6 +76,25 @@ EXAMPLES = {
       >>> result([(0, 4, "fits"), (0, 6, "fits")], 0, 5), result([(0, 4, "fits")], 0, 5)
       ('fits', 'open')
     """),
+    16: ([floor], """
+    >>> floor = Floor(shop, (2, 3, 5))
+    >>> floor.swap(1, 0), floor.take(2, 8), floor.lock(0)
+    ((2, 3), 5, None)
+    >>> floor.setting(), floor.rack(), floor.possible()
+    ((3, 2, 8), (5, 7), [('take', 1, 5), ('take', 1, 7), ('take', 2, 5), ('take', 2, 7)])
+    >>> floor.undo(), floor.undo(), floor.setting(), repr(floor)
+    (True, True, (3, 2, 5), 'Floor(3 machines, 5 spindles, 0 locked)')
+    """),
+    17: ([texts], """
+      >>> shop_text(shop), row_text([("swap", 0, 1), ("take", 2, 8)])
+      ('2 3 5 7 8 / 1-4 2-7 3-9', '0x1 2<8')
+      >>> setting_in(shop, "5 2 3")
+      raises BadText('5 2 3')
+    """),
+    18: ([sheet], r"""
+    >>> answers("shop 2 3 5 7 8 / 1-4 2-7 3-9\nset 2 3 5\nswap 1 0\ntake 0 7\nto 2 3 8\nhold 0\nrack")
+    ['2 3', 'error Unfit', '2', '2 3', '7 8']
+    """),
 }
 
 
@@ -83,6 +103,16 @@ def lines_of(text):
 
 
 class Examples(unittest.TestCase):
+    def test_they_stand_in_the_document(self):
+        document = Path(__file__).resolve().parent.parent.parent / "shared" / "DOC.md"
+        if not document.exists():
+            self.skipTest("the document is not here")
+        words = [line.strip() for line in document.read_text().split("\n")]
+        examples = [line for line in words if line.startswith(">>> ")]
+        here = [line for modules, text in EXAMPLES.values() for line in lines_of(text)]
+        self.assertEqual([line for line in here if line not in words], [])
+        self.assertEqual([line for line in examples if line not in here], [])
+
     def check(self, line, expected, names):
         raised = re.fullmatch(r"raises (\w+)\((.*)\)", expected)
         if not raised:

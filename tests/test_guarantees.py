@@ -10,14 +10,18 @@ from common import (
 )
 from spindlefit.changes import renamed, with_machine, with_range, with_spindle, without_spindle
 from spindlefit.counting import first_exchanges, number_of, row_at, row_count
-from spindlefit.exchanges import exchanges
+from spindlefit.errors import Locked
+from spindlefit.exchanges import back, exchanges
+from spindlefit.floor import Floor
 from spindlefit.reach import can_come, fewest_for, row_for, still
 from spindlefit.rings import chains, fewest, rings, settled, way
 from spindlefit.rows import row_to, shows_nearing, shows_row, shows_shortest
 from spindlefit.service import most_served, service, shortages, shows_service, shows_shortages
 from spindlefit.settings import can_hold, can_lie, certain, shows_overfull, verdict
+from spindlefit.sheet import answers
 from spindlefit.shops import is_setting, is_shop, rack
 from spindlefit.sightings import hulls
+from spindlefit.texts import row_in, row_text, setting_in, setting_text, shop_in, shop_text
 from spindlefit.totals import all_settings, setting_at, setting_count, setting_number
 
 
@@ -360,6 +364,70 @@ class MoreSpindles(unittest.TestCase):
             more = with_machine(shop, 1, 99)
             in_rack = len(shop[0]) - len(shop[1])
             self.assertEqual(setting_count(more), setting_count(shop) * max(0, in_rack))
+
+
+class Floors(unittest.TestCase):
+    def test_a_row_leads_a_floor_to_every_setting(self):
+        for shop, one, other in pairs_of_settings("floors", 40):
+            floor = Floor(shop, one)
+            row = row_to(shop, one, other)
+            self.assertEqual((floor.fewest_to(other), floor.possible()), (len(row), exchanges(shop, one)))
+            returning = back(shop, one, row)
+            floor.run(row)
+            self.assertEqual((floor.setting(), floor.fewest_to(one)), (other, len(row)))
+            self.assertTrue(floor == Floor(shop, other))
+            floor.run(returning)
+            self.assertEqual((floor.setting(), floor.operations()), (one, 2))
+            self.assertTrue(floor.as_of(1) == Floor(shop, other) and floor == floor.as_of(0))
+
+    def test_locked_machines_take_no_part(self):
+        for shop, one, other in pairs_of_settings("locked", 40):
+            floor = Floor(shop, one)
+            locked = tuple(range(1, len(one), 2))
+            for machine in locked:
+                floor.lock(machine)
+            for size in can_come(shop, one, 0, locked):
+                twin = floor.twin()
+                twin.run(row_for(shop, one, 0, size, locked))
+                self.assertEqual(twin.setting()[0], size)
+                self.assertEqual(twin.fewest_to(one), fewest_for(shop, one, 0, size, locked))
+                self.assertEqual([twin.setting()[k] for k in locked], [one[k] for k in locked])
+            moving = [k for k in locked if k not in settled(shop, one, other)]
+            if moving:
+                with self.assertRaises(Locked) as caught:
+                    floor.fewest_to(other)
+                self.assertEqual(caught.exception.machine, moving[0])
+            else:
+                self.assertEqual(floor.fewest_to(other), fewest(shop, one, other))
+
+    def test_changes_of_a_floor_are_those_of_its_shop(self):
+        for shop, one, other in pairs_of_settings("changed", 20):
+            floor = Floor(shop, one)
+            floor.widen(0, one[0], 10 ** 9)
+            changed = with_range(shop, 0, one[0], 10 ** 9)
+            self.assertEqual(floor.shop(), changed)
+            if len(shop[0]) < 12:
+                floor.deliver(10 ** 9)
+                changed = with_spindle(changed, 10 ** 9)
+                self.assertEqual((floor.shop(), floor.rack()[-1]), (changed, 10 ** 9))
+            if len(one) < 8 and floor.rack():
+                size = floor.rack()[0]
+                self.assertEqual(floor.install(size, size, size), len(one))
+                self.assertEqual(floor.shop(), with_machine(changed, size, size))
+            self.assertTrue(is_shop(floor.shop()) and is_setting(floor.shop(), floor.setting()))
+            self.assertGreater(setting_count(floor.shop()), 0)
+
+    def test_a_sheet_says_what_the_functions_return(self):
+        for shop, one, other in pairs_of_settings("sheets", 30):
+            row = row_to(shop, one, other)
+            lines = ["shop " + shop_text(shop), "set " + setting_text(one), "to " + setting_text(other),
+                     "rows " + setting_text(other), "possible", "run " + row_text(row), "setting", "rack", "hold 0"]
+            self.assertEqual(answers("\n".join(lines)), [
+                str(fewest(shop, one, other)), str(row_count(shop, one, other)), row_text(exchanges(shop, one)), "done",
+                setting_text(other), setting_text(rack(shop, other)) or "-", setting_text(can_hold(shop, 0)),
+            ])
+            self.assertEqual((shop_in(shop_text(shop)), row_in(row_text(row))), (shop, row))
+            self.assertEqual(setting_in(shop, setting_text(other)), other)
 
 
 if __name__ == "__main__":

@@ -24,6 +24,8 @@ WRITTEN = {
     "sightings": "hulls(settings) bounds(trials, machine) result(trials, machine, size)",
     "changes": "with_range(shop, machine, low, high) with_spindle(shop, size) without_spindle(shop, size) "
                "with_machine(shop, low, high) renamed(shop, order)",
+    "texts": "shop_text(shop) setting_text(setting) row_text(row) shop_in(text) setting_in(shop, text) row_in(text)",
+    "sheet": "answers(text)",
 }
 
 

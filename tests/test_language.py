@@ -9,7 +9,7 @@ from pathlib import Path
 PACKAGE = Path(__file__).resolve().parent.parent / "spindlefit"
 MODULES = [
     "errors", "limits", "shops", "exchanges", "settings", "service", "rings", "rows", "counting", "reach",
-    "totals", "sightings", "changes",
+    "totals", "sightings", "changes", "floor", "texts", "sheet",
 ]
 ALLOWED_BUILTINS = set(
     "len range enumerate zip min max sum abs sorted reversed int str bool list tuple dict set isinstance ord repr "
@@ -24,6 +24,11 @@ BARRED_WORDS = (
 ).split()
 BARRED_PARTS = ["dataclass", "overload", "contextmanager"]
 BARRED_NAMES = set("register mro elements open input version_info with_traceback add_note".split())
+ALLOWED_METHODS = set(
+    "append clear copy count endswith extend find get index insert isalnum isalpha isdigit islower isspace isupper "
+    "items join keys ljust lower lstrip partition pop remove replace reverse rfind rjust rpartition rsplit rstrip "
+    "setdefault split splitlines startswith strip update upper values zfill bit_length".split()
+)
 BARRED_NODES = (
     ast.Global, ast.AsyncFunctionDef, ast.AsyncFor, ast.AsyncWith, ast.Await, ast.Import, ast.Div, ast.MatMult,
 )
@@ -140,6 +145,36 @@ class Language(unittest.TestCase):
                     self.assertNotIsInstance(node.value, (float, complex), name)
                     if isinstance(node.value, str):
                         self.assertNotIn("%", node.value, name)
+
+    def test_methods_and_attributes(self):
+        classes = [node for tree in self.trees.values() for node in tree.body if isinstance(node, ast.ClassDef)]
+        methods = {part.name for node in classes for part in node.body if isinstance(part, ast.FunctionDef)}
+        assigned = {node.attr for tree in self.trees.values() for node in ast.walk(tree)
+                    if isinstance(node, ast.Attribute) and isinstance(node.ctx, ast.Store)}
+        self.assertEqual(methods & assigned, set())
+        for kind in (str, int, list, dict, set, tuple, bytes):
+            self.assertEqual([name for name in methods | assigned if hasattr(kind, name) and name[:2] != "__"], [])
+        for name, tree in self.trees.items():
+            called = [node.func for node in ast.walk(tree) if isinstance(node, ast.Call)]
+            for function in called:
+                if isinstance(function, ast.Attribute):
+                    self.assertIn(function.attr, ALLOWED_METHODS | methods, name)
+            for node in ast.walk(tree):
+                if isinstance(node, ast.Attribute) and node not in called:
+                    self.assertIn(node.attr, assigned, name)
+
+    def test_lists_stand_where_a_class_has_its_own_equality(self):
+        for name, tree in self.trees.items():
+            for node in ast.walk(tree):
+                self.assertNotIsInstance(node, ast.GeneratorExp, name)
+
+    def test_only_own_errors_are_caught(self):
+        own = {node.name for node in self.trees["errors.py"].body if isinstance(node, ast.ClassDef)}
+        for name, tree in self.trees.items():
+            for node in ast.walk(tree):
+                if isinstance(node, ast.ExceptHandler):
+                    kinds = node.type.elts if isinstance(node.type, ast.Tuple) else [node.type]
+                    self.assertLessEqual({kind.id for kind in kinds}, own, name)
 
     def test_is_stands_only_with_none_true_and_false(self):
         for name, tree in self.trees.items():
