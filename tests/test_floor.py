@@ -466,7 +466,7 @@ class Queries(FloorCase):
         floor = Floor(*FULL)
         for machine in range(8):
             floor.lock(machine)
-        self.assertEqual((len(floor), repr(floor), str(floor)), (8,) + ("Floor(8 machines, 12 spindles, 8 locked)",) * 2)
+        self.assertEqual((len(floor), repr(floor)), (8, "Floor(8 machines, 12 spindles, 8 locked)"))
         one = Floor(((4,), ((1, 9),)), (4,))
         self.assertEqual((len(one), repr(one)), (1, "Floor(1 machines, 1 spindles, 0 locked)"))
         one.lock(0)

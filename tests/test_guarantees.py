@@ -267,7 +267,8 @@ class MachinesInAnotherOrder(unittest.TestCase):
                                  sorted([place[k] for k in chain] for chain in chains(shop, one, other)))
                 moved = [self.moved(step, place) for step in row_to(shop, one, other)]
                 self.assertTrue(shows_nearing(new, tuple(first), tuple(second), moved))
-                self.assertEqual(exchanges(new, first), sorted(self.moved(step, place) for step in exchanges(shop, one)))
+                steps = [self.moved(step, place) for step in exchanges(shop, one)]
+                self.assertEqual(exchanges(new, first), sorted(steps))
                 self.assertEqual(still(new, first), sorted(place[k] for k in still(shop, one)))
                 for machine in order:
                     self.assertEqual(can_come(new, first, place[machine]), can_come(shop, one, machine))

@@ -74,10 +74,11 @@ class Lines(Case):
         self.says(["swap 0 0", "lock 0", "swap 0 0"], ["error SameMachine", "done", "error SameMachine"])
         self.says(["lock 0", "swap 1 0", "take 0 7", "run 0x1", "lock 0", "to 3 2 5", "hold 0", "rows 3 2 5"],
                   ["done"] + ["error Locked"] * 5 + ["2", "1"])
-        self.says(["unlock 0", "lock 0", "unlock 0", "unlock 0"], ["error NotLocked", "done", "done", "error NotLocked"])
+        self.says(["unlock 0", "lock 0", "unlock 0", "unlock 0"],
+                  ["error NotLocked", "done", "done", "error NotLocked"])
         self.says(["take 0 4", "take 0 5", "run 0<9", "install 1 9 2", "install 1 9 1"], ["error NotInRack"] * 5)
-        self.says(["swap 0 2", "take 0 7", "run 2<7 1<8", "widen 0 3 9", "widen 0 9 1", "install 1 6 7", "install 9 1 7"],
-                  ["error Unfit"] * 7)
+        self.says(["swap 0 2", "take 0 7", "run 2<7 1<8", "widen 0 3 9", "widen 0 9 1"], ["error Unfit"] * 5)
+        self.says(["install 1 6 7", "install 9 1 7"], ["error Unfit"] * 2)
         self.says(["deliver 5", "deliver 6", "deliver 6"], ["error Duplicate", "done", "error Duplicate"])
         self.says(["to 2", "to 2 3", "to 2 3 5 7", "to 2 3 3", "to 5 2 3", "to 9 9 9"], ["error OtherShop"] * 6)
         self.says(["rows 2", "rows 2 3", "rows 2 3 5 7", "rows 2 3 3", "rows 5 2 3", "rows 9 9 9"],

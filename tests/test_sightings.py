@@ -186,7 +186,8 @@ class Bounds(Case):
                 for one, size, found in trials:
                     if one == machine:
                         self.returns(found, result, trials, machine, size)
-        self.returns(((10 ** 9, 10 ** 9), (10 ** 9, None)), bounds, [(0, 10 ** 9, "fits"), (0, 10 ** 9 - 1, "small")], 0)
+        most = 10 ** 9
+        self.returns(((most, most), (most, None)), bounds, [(0, most, "fits"), (0, most - 1, "small")], 0)
 
     def test_by_name_and_with_lists(self):
         trials = [[0, 4, "fits"], (0, 9, "large"), [1, 5, "small"]]
